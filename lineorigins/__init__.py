@@ -1,0 +1,1 @@
+"""Lineorigins: where every line of every version can come from."""
