@@ -93,6 +93,12 @@ class TestText(Case):
             self.assertIs(type(read), Ratio)
             self.assertEqual(terms(read), terms(ratio))
 
+    def test_every_digit_is_read(self):
+        for number in [*range(-120, 121), 9876543210, -1029384756]:
+            self.assert_same(terms(Ratio.from_text(str(number))), (number, 1))
+        self.assert_same(terms(Ratio.from_text("9/1234567890123456790")), (9, 1234567890123456790))
+        self.assert_same(terms(Ratio.from_text("-1/99")), (-1, 99))
+
     def test_200_digits_and_201(self):
         most, beyond = digits(200), digits(201)
         for ratio in [Ratio(most), Ratio(-most), Ratio(1, most), Ratio(-most, most + 1)]:
