@@ -1,6 +1,6 @@
 """Exact fractions."""
 
-from math import gcd
+from math import gcd, lcm
 
 from lineorigins.errors import InvalidNumber, InvalidText
 from lineorigins.kinds import is_digits, is_whole
@@ -148,6 +148,19 @@ def as_ratio(number):
     if isinstance(number, Ratio):
         return number
     return Ratio(number)
+
+
+def common_bottom(ratios):
+    """The least number that all the denominators divide."""
+    found = 1
+    for ratio in ratios:
+        found = lcm(found, ratio.bottom)
+    return found
+
+
+def scaled(ratio, scale):
+    """How often a ratio contains the fraction 1 / scale, for a scale that its denominator divides."""
+    return ratio.top * (scale // ratio.bottom)
 
 
 def _written_terms(text):

@@ -41,6 +41,11 @@ def digits(many):
     return 10 ** (many - 1) + 7
 
 
+def no_indices(size):
+    """Values that are not the index of one of so many things."""
+    return [*NO_WHOLE_NUMBERS, -1, -size, size, size + 1, digits(200), -digits(200)]
+
+
 class Case(unittest.TestCase):
 
     def assert_refused(self, error, value, call, *args, field="value", **more):
@@ -50,6 +55,11 @@ class Case(unittest.TestCase):
         self.assertIs(type(caught.exception), error)
         self.assertIs(getattr(caught.exception, field), value)
         return caught.exception
+
+    def assert_refused_late(self, error, value, generator, *args, **more):
+        """The error is raised when the iteration begins, not by the call."""
+        begun = generator(*args, **more)
+        return self.assert_refused(error, value, next, begun)
 
     def assert_same(self, found, wanted):
         """Equal, and of the same classes throughout; True is not 1 here."""

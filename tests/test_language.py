@@ -273,3 +273,80 @@ class TestExpressions(unittest.TestCase):
         for _, node in all_nodes(ast.Call):
             if isinstance(node.func, ast.Attribute):
                 self.assertNotIn(node.func.attr, properties)
+
+
+class TestIteration(unittest.TestCase):
+
+    def generators(self):
+        return {node.name: node for _, node in all_nodes(ast.FunctionDef)
+                if any(isinstance(inner, (ast.Yield, ast.YieldFrom)) for inner in ast.walk(node))}
+
+    def test_generators_are_iterated_at_once(self):
+        names = set(self.generators())
+        self.assertTrue(names)
+        for path, tree in TREES.items():
+            calls = [node for node in ast.walk(tree)
+                     if isinstance(node, ast.Call) and isinstance(node.func, ast.Name) and node.func.id in names]
+            used = [node for node in ast.walk(tree) if isinstance(node, ast.Name) and node.id in names]
+            self.assertEqual(len(used), len(calls), path.name)
+            iterated = [node.iter for node in ast.walk(tree) if isinstance(node, (ast.For, ast.comprehension))]
+            iterated += [node.value for node in ast.walk(tree) if isinstance(node, ast.YieldFrom)]
+            for call in calls:
+                self.assertIn(call, iterated, f"{path.name} {call.lineno}")
+                for item in call.args:
+                    self.assertIsInstance(item, (ast.Name, ast.Attribute, ast.Constant), f"{path.name} {call.lineno}")
+
+    def test_generators_have_names_of_their_own(self):
+        functions = [node.name for _, node in all_nodes(ast.FunctionDef)]
+        for name, node in self.generators().items():
+            self.assertEqual(functions.count(name), 1)
+            self.assertEqual(node.decorator_list, [])
+            yields = [inner for inner in ast.walk(node) if isinstance(inner, (ast.Yield, ast.YieldFrom))]
+            rows = [inner.value for inner in ast.walk(node) if isinstance(inner, ast.Expr)]
+            self.assertTrue(all(inner in rows for inner in yields), name)
+
+    def test_reversed_takes_lists_and_ranges(self):
+        for path, node in all_nodes(ast.Call):
+            if isinstance(node.func, ast.Name) and node.func.id == "reversed":
+                self.assertIn(ast.unparse(node.args[0]).partition("(")[0], ("list", "tuple", "range"), path.name)
+
+    def test_sets_are_measured_compared_or_asked_at_once(self):
+        for path, tree in TREES.items():
+            at_once = []
+            for node in ast.walk(tree):
+                if isinstance(node, ast.Call) and isinstance(node.func, ast.Name) and node.func.id == "len":
+                    at_once.extend(node.args)
+                if isinstance(node, ast.Compare):
+                    at_once.extend([node.left, *node.comparators])
+            for node in ast.walk(tree):
+                if isinstance(node, ast.Call) and isinstance(node.func, ast.Name) and node.func.id == "set":
+                    self.assertIn(node, at_once, f"{path.name} {node.lineno}")
+                self.assertNotIsInstance(node, ast.SetComp)
+
+    def test_no_one_iterates_over_what_it_changes(self):
+        changing = {"append", "extend", "insert", "pop", "remove", "clear", "reverse", "update", "setdefault"}
+        for path, loop in all_nodes(ast.For):
+            subject = loop.iter
+            while isinstance(subject, (ast.Call, ast.Subscript)):
+                inner = subject.func if isinstance(subject, ast.Call) else subject.value
+                if isinstance(inner, ast.Name) and isinstance(subject, ast.Call):
+                    if inner.id not in ("enumerate", "zip", "reversed"):
+                        break
+                    inner = subject.args[0]
+                subject = inner.value if isinstance(inner, ast.Attribute) else inner
+            name = ast.unparse(subject)
+            for node in ast.walk(loop):
+                where = f"{path.name} {node.lineno}" if hasattr(node, "lineno") else path.name
+                if isinstance(node, ast.Call) and isinstance(node.func, ast.Attribute) and node.func.attr in changing:
+                    self.assertNotEqual(ast.unparse(node.func.value), name, where)
+                if isinstance(node, ast.Subscript) and isinstance(node.ctx, (ast.Store, ast.Del)):
+                    self.assertNotEqual(ast.unparse(node.value), name, where)
+
+    def test_properties_only_return(self):
+        for path, cls in all_nodes(ast.ClassDef):
+            for item in cls.body:
+                if isinstance(item, ast.FunctionDef) and "property" in [ast.unparse(one) for one in item.decorator_list]:
+                    for node in ast.walk(item):
+                        self.assertNotIsInstance(node, (ast.Assign, ast.AugAssign), f"{path.name} {item.name}")
+                        if isinstance(node, ast.Call):
+                            self.assertIn(ast.unparse(node.func), ("len", "str", "tuple"), f"{path.name} {item.name}")
