@@ -6,7 +6,7 @@ from lineorigins.places import is_ascending, is_link, is_tuple, link_key
 from lineorigins.prices import prices_or_usual
 from lineorigins.ratios import Ratio
 from lineorigins.tellings import links_of
-from lineorigins.ways import all_steps, first_tellings, prices_from
+from lineorigins.ways import all_steps, first_tellings, keep_least, prices_from
 
 
 def pair_paper(study, first, second):
@@ -94,17 +94,12 @@ def _open_pairs(bounds, index, other):
     ends = {}
     for step in bounds.steps:
         if step.covers(index):
-            _keep_least(starts, (step.link(index), step.end), bounds.ahead[step.begin] + step.price)
+            keep_least(starts, (step.link(index), step.end), bounds.ahead[step.begin] + step.price)
         if step.covers(other):
-            _keep_least(ends, (step.link(other), step.begin), step.price + bounds.behind[step.end])
+            keep_least(ends, (step.link(other), step.begin), step.price + bounds.behind[step.end])
     # A step that covers both lines is neither of two that follow each other.
     for (link, end), price in starts.items():
         for (beside, begin), rest in ends.items():
             if end <= begin and price + bounds.between[end][begin] + rest <= bounds.price:
                 found.append((link, beside))
     return found
-
-
-def _keep_least(prices, key, price):
-    if key not in prices or price < prices[key]:
-        prices[key] = price

@@ -67,9 +67,7 @@ def prices_from(steps, start):
     found = {start: 0}
     for step in steps:
         if step.begin in found:
-            price = found[step.begin] + step.price
-            if step.end not in found or price < found[step.end]:
-                found[step.end] = price
+            keep_least(found, step.end, found[step.begin] + step.price)
     return found
 
 
@@ -77,10 +75,14 @@ def prices_to(steps, end):
     """The least price of telling the lines from each point to the end."""
     found = {end: 0}
     for step in reversed(list(steps)):
-        price = step.price + found[step.end]
-        if step.begin not in found or price < found[step.begin]:
-            found[step.begin] = price
+        keep_least(found, step.begin, step.price + found[step.end])
     return found
+
+
+def keep_least(prices, key, price):
+    """Put in a price if there is none for this key, or a higher one."""
+    if key not in prices or price < prices[key]:
+        prices[key] = price
 
 
 def first_tellings(steps, end):
@@ -108,10 +110,8 @@ def extremes(ways, weights):
     least = {0: 0}
     most = {0: 0}
     for step, weight in zip(ways.steps, weights):
-        low = least[step.begin] + weight
+        keep_least(least, step.end, least[step.begin] + weight)
         high = most[step.begin] + weight
-        if step.end not in least or low < least[step.end]:
-            least[step.end] = low
         if step.end not in most or high > most[step.end]:
             most[step.end] = high
     return least[ways.size], most[ways.size]

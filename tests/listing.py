@@ -114,3 +114,63 @@ class Listing:
             if self.texts[place[0]][place[1]] != self.texts[link[0]][link[1]]:
                 return place
         return chain[-1]
+
+
+class Spread:
+    """All tellings of a small history with what they cost, however dear a piece is."""
+
+    def __init__(self, listing):
+        self.listing = listing
+        piece = fraction(listing.prices.piece)
+        # For each version, what tellings cost beside their pieces, with the links that lines have at this cost.
+        self.told = []
+        for number, text in enumerate(listing.texts):
+            found = {}
+            for telling, links, price in listing.told_behind(number, 0):
+                pieces = sum([part != NEW for part in telling])
+                lines = found.setdefault((pieces, price - pieces * piece), [set() for _ in text])
+                for line, link in zip(lines, links):
+                    line.add(link)
+            self.told.append(found)
+        self.steps = [self.steps_of(number) for number in range(len(self.told))]
+
+    def price(self, number, piece):
+        return min([pieces * piece + rest for pieces, rest in self.told[number]])
+
+    def cheapest(self, number, piece):
+        """The numbers of pieces, and the prices of the rest, of cheapest tellings at this price of a piece."""
+        least = self.price(number, piece)
+        return [(pieces, rest) for pieces, rest in self.told[number] if pieces * piece + rest == least]
+
+    def steps_of(self, number):
+        """The prices of a piece at which cheapest tellings of a version have different numbers of pieces."""
+        meets = {(less - rest) / (pieces - fewer) for pieces, rest in self.told[number]
+                 for fewer, less in self.told[number] if fewer < pieces}
+        return sorted([piece for piece in meets if piece > 0
+                       and len({pieces for pieces, _ in self.cheapest(number, piece)}) > 1])
+
+    def all_steps(self):
+        return sorted({step for found in self.steps for step in found})
+
+    def links(self, piece):
+        """For each place, the set of the links that its line has in cheapest tellings at this price of a piece."""
+        found = {}
+        for number, told in enumerate(self.told):
+            lines = zip(*[told[cost] for cost in self.cheapest(number, piece)])
+            found.update({(number, index): set().union(*links) for index, links in enumerate(lines)})
+        return found
+
+    def origins(self, piece):
+        """For each place, the set of the origins of its line, link by link, at this price of a piece."""
+        found = {}
+        for place, links in self.links(piece).items():
+            found[place] = set().union(*[{place} if link is None else found[link] for link in links])
+        return found
+
+
+def prices_around(steps):
+    """Prices below, between and above these, the steps themselves, and some close by."""
+    near = Fraction(1, 10 ** 30)
+    ends = [Fraction(0), *steps, (steps or [Fraction(1)])[-1] + 2]
+    found = {(low + high) / 2 for low, high in zip(ends, ends[1:])} | {near, Fraction(10 ** 30)} | set(steps)
+    return sorted(found | {step - near for step in steps} | {step + near for step in steps})
