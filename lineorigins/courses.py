@@ -25,7 +25,7 @@ class Course:
 
     def __init__(self, history, number, prices):
         self.bends = _bends(history, number, prices)
-        self.cells = cells_between([low for low, _, _, _ in self.bends[1:]])
+        self.cells = cells_between([bend[0] for bend in self.bends[1:]])
         self._possible = [Ways(history, number, prices.with_piece(cell.sample)).possible for cell in self.cells]
 
     def price_at(self, price):
@@ -46,7 +46,7 @@ class Courses:
 
     def __init__(self, history, prices):
         self._courses = [Course(history, number, prices) for number in range(len(history))]
-        self.steps = _ascending([low for course in self._courses for low, _, _, _ in course.bends[1:]])
+        self.steps = _ascending([bend[0] for course in self._courses for bend in course.bends[1:]])
         self.cells = cells_between(self.steps)
         self._origins = [_origins_at(self._courses, cell.sample) for cell in self.cells]
 

@@ -5,8 +5,6 @@ from lineorigins.histories import MOST_PARENTS, MOST_VERSIONS, History, Version
 from lineorigins.kinds import is_name, is_written_count
 from lineorigins.layouts import MOST_LINES, is_line
 
-MOST_COUNT_DIGITS = 30
-
 
 def format_history(history):
     """The text of a history."""
@@ -60,7 +58,7 @@ def _read_parents(word, number):
         return []
     parents = []
     for digits in word.split(","):
-        if not is_written_count(digits, MOST_COUNT_DIGITS) or int(digits) >= number:
+        if not is_written_count(digits) or int(digits) >= number:
             return None
         if parents and int(digits) <= parents[-1]:
             return None

@@ -1,6 +1,7 @@
 """The kinds of plain values that the whole package asks for."""
 
 MOST_NAME_LETTERS = 8
+MOST_COUNT_DIGITS = 30
 
 
 def is_whole(value):
@@ -37,6 +38,10 @@ def is_digits(word, most):
     return 1 <= len(word) <= most and all(["0" <= digit <= "9" for digit in word])
 
 
-def is_written_count(word, most):
-    """Whether a string is a count as written: digits, at most so many, without leading zeros."""
-    return is_digits(word, most) and (word == "0" or not word.startswith("0"))
+def is_written_count(word):
+    """Whether a string is a count as written: digits, not too many, without leading zeros."""
+    return is_digits(word, MOST_COUNT_DIGITS) and (word == "0" or not word.startswith("0"))
+
+
+def are_written_counts(words):
+    return all([is_written_count(word) for word in words])

@@ -30,6 +30,15 @@ def origins_together(study, first, second):
 
 def relation(study, first, second):
     """Whether two lines are surely, perhaps or never the same line."""
+    check_place(study.history, first)
+    check_place(study.history, second)
+    ones = origins(study, *first)
+    others = origins(study, *second)
+    # The pairs of origins take much longer to find, and are needed only where these leave it open.
+    if not any([one in others for one in ones]):
+        return "never"
+    if len(ones) == 1 and len(others) == 1:
+        return "surely"
     same = [one == other for one, other in origins_together(study, first, second)]
     if all(same):
         return "surely"

@@ -43,6 +43,14 @@ def link_key(link):
     return () if link is None else link
 
 
+def format_place(place):
+    return f"{place[0]}.{place[1]}"
+
+
+def format_link(link):
+    return "new" if link is None else format_place(link)
+
+
 def is_ascending(keys):
     """Whether each one is more than the one before."""
     return all([keys[at] < keys[at + 1] for at in range(len(keys) - 1)])

@@ -108,6 +108,14 @@ class Listing:
                 found[place].add(self.chain(links, place))
         return found
 
+    def origins(self):
+        """For each line, the set of its origins, link by link: each version is told on its own."""
+        found = {}
+        for number, index in self.places:
+            links = {links[index] for links in self.links[number]}
+            found[number, index] = set().union(*[{(number, index)} if link is None else found[link] for link in links])
+        return found
+
     def touch(self, chain):
         """The last touch of a line with this chain."""
         for place, link in zip(chain, chain[1:]):

@@ -32,6 +32,9 @@ STATEMENTS = (
 BARRED = set(
     "type typing typing_extensions enum Enum IntEnum StrEnum Flag IntFlag Generic Protocol ABC ABCMeta namedtuple "
     "NamedTuple TypedDict TYPE_CHECKING abstractmethod dataclass overload contextmanager".split())
+BARRED_NAMES = (
+    r"\A_(wall|pe_|dcw_|enum_|cm_|twin_re_|lay_|law_|stub_|sre)"
+    r"|\A_(cold|tuplegetter|outside|record|written_out|member_names)[0-9_]*\Z")
 UNUSED_NAMES = set(
     "register mro elements open input law version_info with_traceback add_note attrgetter breakpoint builtins compile "
     "delattr dir eval exec exit gc globals help id importlib license locals methodcaller os quit type vars".split())
@@ -192,6 +195,22 @@ class TestStatements(unittest.TestCase):
                 for node in ast.walk(function):
                     self.assertNotIsInstance(node, (ast.Assign, ast.AugAssign, ast.NamedExpr))
 
+    def test_ends_of_blocks(self):
+        """Only assignments of plain attributes, and the one question whether there was an error."""
+        seen = 0
+        for path, function in all_nodes(ast.FunctionDef):
+            if function.name == "__exit__":
+                seen += 1
+                self.assertEqual([item.arg for item in function.args.args], ["self", "kind", "value", "trace"])
+                for node in ast.walk(function):
+                    if isinstance(node, ast.stmt):
+                        self.assertIsInstance(node, (ast.FunctionDef, ast.Assign, ast.If), path.name)
+                    if isinstance(node, ast.If):
+                        self.assertEqual(ast.unparse(node.test), "kind is not None")
+                    if isinstance(node, ast.Assign):
+                        self.assertRegex(ast.unparse(node), r"\A[a-z]+(\._?[a-z_]+)? = self\._?[a-z_]+\Z")
+        self.assertEqual(seen, 1)
+
     def test_caught_errors(self):
         for path, node in all_nodes(ast.ExceptHandler):
             self.assertIsInstance(node.type, ast.Name)
@@ -232,6 +251,7 @@ class TestExpressions(unittest.TestCase):
             for name in bound_names(tree):
                 self.assertNotIn(name, known | UNUSED_NAMES, path.name)
                 self.assertRegex(name, r"\A_?[A-Za-z][A-Za-z0-9_]*\Z|\A_\Z", path.name)
+                self.assertNotRegex(name, BARRED_NAMES, path.name)
 
     def test_names_of_classes_and_imports_are_kept(self):
         for path, tree in TREES.items():
@@ -262,8 +282,8 @@ class TestExpressions(unittest.TestCase):
         for _, cls in all_nodes(ast.ClassDef):
             for item in cls.body:
                 if isinstance(item, ast.FunctionDef):
-                    found = [ast.unparse(one) for one in item.decorator_list]
-                    (properties if "property" in found else methods).add(item.name)
+                    found = [ast.unparse(one).removesuffix(f"{item.name}.setter") for one in item.decorator_list]
+                    (properties if found in (["property"], [""]) else methods).add(item.name)
         for _, node in all_nodes(ast.Attribute):
             if isinstance(node.ctx, ast.Store):
                 attributes.add(node.attr)
