@@ -39,15 +39,14 @@ class Console:
             self._keeper.reprice(Prices.from_text(text, layout=self._keeper.rates.layout))
             return "ok"
         if word == "amend":
-            return self._amended(line)
+            return self._amended(line, text)
         return self._answered(line)
 
-    def _amended(self, line):
-        """The answer to a line that begins like an amendment."""
-        _, _, rest = line.partition(" ")
-        number, space, text = rest.partition(" ")
-        rows = [] if text == "-" else text.split("; ")
-        if space == "" or not are_written_counts([number]) or not all([row.startswith("|") for row in rows]):
+    def _amended(self, line, text):
+        """The answer to a line with this text behind the word for amendments."""
+        number, _, written = text.partition(" ")
+        rows = [] if written == "-" else written.split("; ")
+        if not are_written_counts([number]) or not all([row.startswith("|") for row in rows]):
             raise InvalidCommand(line)
         places = self._keeper.amend(int(number), [row[1:] for row in rows])
         return _joined([format_place(place) for place in places])

@@ -1,7 +1,7 @@
 """How the answers change as the price of a piece runs through all positive fractions."""
 
 from lineorigins.joints import head_at, union
-from lineorigins.ratios import Ratio, common_bottom, scaled
+from lineorigins.ratios import Ratio, scaled
 from lineorigins.ways import Ways, all_steps, keep_least, price_scale
 
 
@@ -115,19 +115,21 @@ def _least_rests(history, number, prices, scale):
 
 
 def _count_when_free(rests):
-    """How many pieces the cheapest tellings have if a piece costs next to nothing."""
+    """How many pieces the cheapest tellings have if a piece costs next to nothing, but not nothing."""
     found = 0
-    for pieces, rest in rests.items():
-        if rest < rests[found] or rest == rests[found] and pieces < found:
+    for pieces in sorted([int(pieces) for pieces in rests]):
+        if rests[pieces] < rests[found]:
             found = pieces
     return found
 
 
 def _ascending(ratios):
     """These ratios in ascending order, each once."""
-    scale = common_bottom(ratios)
-    tops = {scaled(ratio, scale): True for ratio in ratios}
-    return tuple([Ratio(top, scale) for top in sorted([int(top) for top in tops])])
+    found = []
+    for ratio in ratios:
+        if ratio not in found:
+            found.insert(len([other for other in found if other < ratio]), ratio)
+    return tuple(found)
 
 
 def _origins_at(courses, price):
